@@ -1,0 +1,1 @@
+"""Borderwright: regions that share borders, exactly."""
