@@ -1,0 +1,149 @@
+import importlib
+import inspect
+import unittest
+
+FUNCTIONS = {
+    "parts": """
+        shared(one, other)
+        part(top, low=1)
+        plus(one, other)
+        minus(one, other)
+        times(one, other)
+        over(one, other)
+        is_less(one, other)
+        sign_of(one)
+        size_of(one)
+        total(parts)
+        lesser(one, other)
+        greater(one, other)
+        told(one)
+    """,
+    "points": """
+        point(x, y)
+        check_point(one)
+        apart(one, other)
+        cross(first, second)
+        side(start, end, spot)
+        is_ahead(one, other)
+        between(start, end, spot)
+        middle(one, other)
+        on_way(one, other, share)
+        may_meet(one, other)
+        meets(first, second)
+        in_order(spots)
+        each_once(spots)
+        half(step)
+        turns_ahead(first, second)
+        square(one, other)
+        shifted(spot, x, y)
+        stride(one, other)
+    """,
+    "rings": """
+        check_ring(corners)
+        steps_of(ring)
+        area(ring)
+        to_left(ring)
+        where(ring, spot)
+        without_flat(ring)
+        is_bulging(ring)
+        heart(ring)
+        box(spots)
+        hull(spots)
+        chain(row)
+        clipped(ring, start, end)
+        both_bulging(one, other)
+        thin(ring)
+        all_area(rings)
+        same_ring(one, other)
+        way_round(ring)
+    """,
+    "faces": """
+        each_step(steps)
+        pieces_of(steps)
+        in_rows(pieces)
+        comes_first(one, other)
+        rounds_of(pieces)
+        turned_from(spot, ends)
+        faces_of(steps)
+        lies_in(row, outer)
+        face_area(face)
+        inner_point(face)
+        in_corner(before, spot, after, one)
+        side_far(before, after, one, other)
+        in_face(face, spot)
+        edges_of(face)
+        outline(faces)
+        counts_of(steps)
+    """,
+    "maps": """
+        sides_of(faces, owners)
+        check_whole(made, outline)
+        all_sizes(made)
+    """,
+    "overlays": """
+        greatest_share(overlay, name)
+        alike(overlay)
+        same_map(one, other)
+        check_names(made, names)
+        only(made, names)
+    """,
+}
+
+METHODS = {
+    ("maps", "Map"): """
+        __init__(self, regions)
+        covers(self, name, spot)
+        rings(self, name)
+        names(self)
+        at(self, spot)
+        area(self, name)
+        whole(self)
+        gaps(self)
+        borders(self)
+        neighbours(self)
+        coast(self, name)
+        parts(self, name)
+        owner_of(self, spot)
+        shown(self)
+    """,
+    ("overlays", "Overlay"): """
+        __init__(self, one, other)
+        areas(self)
+        both(self, name, other)
+        shares(self, name)
+        carried(self, amounts)
+        unlike(self)
+    """,
+}
+
+
+def listed(text):
+    """Return (name, arguments) of the lines of a table."""
+    return [line.strip().partition("(")[0::2] for line in text.strip().splitlines()]
+
+
+class Interface(unittest.TestCase):
+    def test_functions_are_defined_in_their_files_with_their_arguments(self):
+        for place, text in FUNCTIONS.items():
+            module = importlib.import_module("borderwright." + place)
+            for name, arguments in listed(text):
+                with self.subTest(place + "." + name):
+                    found = vars(module)[name]
+                    self.assertTrue(inspect.isfunction(found))
+                    self.assertEqual(found.__module__, module.__name__)
+                    self.assertEqual(str(inspect.signature(found)), "(" + arguments)
+
+    def test_methods_are_defined_in_their_classes_with_their_arguments(self):
+        for (place, kind), text in METHODS.items():
+            module = importlib.import_module("borderwright." + place)
+            made = vars(module)[kind]
+            self.assertEqual((made.__module__, made.__bases__), (module.__name__, (object,)))
+            for name, arguments in listed(text):
+                with self.subTest(kind + "." + name):
+                    found = vars(made)[name]
+                    self.assertTrue(inspect.isfunction(found))
+                    self.assertEqual(str(inspect.signature(found)), "(" + arguments)
+
+
+if __name__ == "__main__":
+    unittest.main()
