@@ -259,6 +259,15 @@ class Faces(unittest.TestCase):
         face = [list(SQUARE[2:] + SQUARE[:2]), [list(INNER[::-1])]]
         self.assertTrue(in_face(face, unchanged(self, inner_point, face)))
 
+    def test_inner_point_stays_this_side_of_all_in_its_corner(self):
+        three = ring((0, 0), (10, 0), (0, 10))
+        near, far = box_ring(1, 1, 3, 3)[::-1], box_ring(5, 1, 1, 1)[::-1]
+        for k in range(4):
+            for holes in ((near[k:] + near[:k],), (far, near[k:] + near[:k]), (near[k:] + near[:k], far)):
+                for n in range(3):
+                    face = (three[n:] + three[:n], holes)
+                    self.assertTrue(in_face(face, inner_point(face)))
+
     def test_in_corner(self):
         three = (spot(0, 4), spot(0, 0), spot(4, 0))
         for one, found in (((1, 1), True), ((2, 2), True), ((0, 2), True), ((0, 0), True), ((3, 0), True),
@@ -286,6 +295,13 @@ class Faces(unittest.TestCase):
         self.assertIs(lies_in(ring((1, 7), (7, 7), (7, 1), (1, 1)), deep), False)
         self.assertIs(lies_in(ring((1, 1), (7, 1), (7, 7)), deep), False)
         self.assertIs(lies_in(ring((1, 1), (7, 1)), deep), True)
+        self.assertIs(lies_in(ring((1, 1)), deep), True)
+
+    def test_lies_in_beside_a_slant(self):
+        three = ring((0, 0), (10, 0), (0, 10))
+        self.assertIs(lies_in(ring((1, 1), (4, 4), (1, 4)), three), True)
+        self.assertIs(lies_in(ring((1, 1), (5, 5), (1, 4)), three), False)
+        self.assertIs(lies_in(ring((1, 1)), three), True)
 
     def test_in_face(self):
         face = (SQUARE, (INNER[::-1],))

@@ -11,6 +11,7 @@ from helper import (
 )
 
 BAD = ((1, 0), (0, 1))
+HALF = Fraction(1, 2)
 
 
 def two():
@@ -99,6 +100,8 @@ class Points(unittest.TestCase):
         nested = Map({"a": [box_ring(0, 0, 9, 9), box_ring(1, 1, 7, 7), box_ring(2, 2, 5, 5)]})
         told = [nested.covers("a", spot(Fraction(1, 2) + k, Fraction(1, 2) + k)) for k in range(10)]
         self.assertEqual(told, [True, False] + [True] * 5 + [False, True, False])
+        self.assertEqual([nested.at(spot(k, 4 + HALF)) for k in (HALF, 1 + HALF, 2 + HALF)], [("a",), (), ("a",)])
+        self.assertEqual((nested.area("a"), nested.coast("a")), ((57, 1), (84, 1)))
 
     def test_rings_of_one_region_that_cross(self):
         made = Map({"a": [box_ring(0, 0, 2, 2), box_ring(1, 1, 2, 2)]})

@@ -137,10 +137,11 @@ class Reckoned(unittest.TestCase):
 
 class Told(unittest.TestCase):
     def test_whole_ones(self):
-        self.assertEqual([told(one) for one in ((0, 1), (7, 1), (-7, 1))], ["0", "7", "-7"])
+        self.assertEqual([told(one) for one in ((0, 1), (7, 1), (-7, 1), (-1, 1))], ["0", "7", "-7", "-1"])
 
     def test_with_a_stroke(self):
-        self.assertEqual([told(one) for one in ((3, 4), (-3, 4), (1, 10))], ["3/4", "-3/4", "1/10"])
+        self.assertEqual([told(one) for one in ((3, 4), (-3, 4), (1, 10), (-1, 10))],
+                         ["3/4", "-3/4", "1/10", "-1/10"])
 
     def test_many_figures(self):
         self.assertEqual(told((MANY, 1)), str(MANY))
