@@ -126,8 +126,9 @@ def least_about(row, outer):
 
 def lies_in(row, outer):
     """Tell whether a round lies wholly within another that it doesn't touch."""
-    if not all([where(outer, spot) == "in" for spot in row]):
-        return False
+    for spot in row:
+        if where(outer, spot) != "in":
+            return False
     # Its corners may lie within while a step between two of them goes out and comes back in.
     return not any([crosses(step, outer) for step in steps_of(row)])
 
