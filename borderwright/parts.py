@@ -5,6 +5,7 @@ from math import gcd
 from borderwright.errors import BadPart
 
 NOUGHT = (0, 1)
+ONE = (1, 1)
 TWO = (2, 1)
 FIGURES_AT_ONCE = 64
 BY_FIGURES = 10 ** 64

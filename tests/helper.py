@@ -83,3 +83,34 @@ def refused_unchanged(case, error, work, *handed):
         work(*handed)
     case.assertIs(caught.exception.__class__, error)
     case.assertEqual(handed, before)
+
+
+def map_state(made):
+    """Return all that a map keeps, so that two states of it can be compared."""
+    return (list(made.regions.items()), made.faces, list(made.owners), list(made.sides.items()))
+
+
+def keeps_map(case, made, work, *handed):
+    """Do some work with a map and what else is handed in, see that all is as it was, and return what the work gave."""
+    before = map_state(made)
+    found = unchanged(case, lambda *rest: work(made, *rest), *handed)
+    case.assertEqual(map_state(made), before)
+    return found
+
+
+def refused_keeps_map(case, error, made, work, *handed):
+    """See that some work with a map is refused, and that the map and what else was handed in are as they were."""
+    before = map_state(made)
+    refused_unchanged(case, error, lambda *rest: work(made, *rest), *handed)
+    case.assertEqual(map_state(made), before)
+
+
+def tuples_all_through(case, found):
+    """See that something is a tuple, and that no list stands anywhere in it."""
+    case.assertIs(found.__class__, tuple)
+    waiting = [found]
+    while waiting:
+        for one in waiting.pop():
+            case.assertNotIsInstance(one, (list, dict))
+            if isinstance(one, tuple):
+                waiting.append(one)

@@ -87,6 +87,90 @@ FUNCTIONS = {
         check_names(made, names)
         only(made, names)
     """,
+    "merges": """
+        outer_steps(faces)
+        rings_round(faces)
+        in_ring_order(rings)
+        comes_ahead(one, other)
+        first_of(spots)
+        tightest(before, here, ends)
+        is_tighter(back, one, other)
+        from_first(ring)
+        merged(made, names, name)
+        cut(made, name, start, end, left, right)
+        whole_faces(faces)
+        tidy(row)
+        across(start, end, spots)
+        biggest(made)
+        filled_gaps(made)
+    """,
+    "cells": """
+        check_rows(rows)
+        square_face(x, y)
+        map_of(rows)
+        rows_of(made, wide, high)
+        grown(rows)
+        beside(x, y, wide, high)
+        lots_of(rows)
+        flipped(rows)
+        fits_in(made, wide, high)
+    """,
+    "simples": """
+        corner_size(ring, place)
+        knots(made)
+        corners_of(made)
+        without(made, spot)
+        check_free(ring, place, corners)
+        simpler(made, most)
+        count_corners(made)
+        moved_size(one, other)
+    """,
+    "colours": """
+        links_of(names, pairs)
+        coloured(names, pairs, many)
+        lay(links, names, place, many, found)
+        fewest(names, pairs)
+        check_colours(names, pairs, colours)
+        all_neighbours(names, pairs)
+        check_least(names, pairs, colours, lot)
+        greedy(names, pairs)
+        by_fewest(names, pairs)
+        how_many(names, pairs, many)
+    """,
+    "labels": """
+        fits(made, label)
+        middle_of(ring)
+        crosses_in(ring, step)
+        good_labels(made, labels)
+        most_labels(labels)
+        may_stand(labels, row, place)
+        check_labels(made, labels, row)
+        bound_of(labels, lots)
+        lots_for(labels)
+    """,
+    "triangles": """
+        ears(ring)
+        first_ear(row)
+        in_three(three, spot)
+        check_threes(ring, threes)
+        in_round(three, spot)
+        joined(spots)
+        left_three(one, other, spot)
+        tidy_hull(first, top)
+        new_ring(ring, seen, spot)
+        flipped_round(threes)
+        is_round(threes, spots)
+        roundest(spots)
+        edges_in(threes)
+        outer_size(spots)
+    """,
+    "nearest": """
+        nearest(spots, spot)
+        nearest_part(ring, spots, place)
+        shared_out(ring, spots, names)
+        two_nearest(spots)
+        furthest(spots)
+    """,
 }
 
 METHODS = {
@@ -113,6 +197,12 @@ METHODS = {
         shares(self, name)
         carried(self, amounts)
         unlike(self)
+    """,
+    ("labels", "Label"): """
+        __init__(self, name, spot, wide, high)
+        ring(self)
+        meets(self, other)
+        shown(self)
     """,
 }
 
