@@ -27,9 +27,9 @@ class Label:
 
     def meets(self, other):
         """Tell whether two labels have more than edges in common."""
-        low, _, high, _ = self.ring()
-        other_low, _, other_high, _ = other.ring()
-        return all([is_less(low[k], other_high[k]) and is_less(other_low[k], high[k]) for k in range(2)])
+        mine, others = self.ring(), other.ring()
+        # They have an inside in common where each one's low edges lie below the other's high ones.
+        return all([is_less(mine[0][k], others[2][k]) and is_less(others[0][k], mine[2][k]) for k in range(2)])
 
     def shown(self):
         """Return (name, spot, wide, high)."""

@@ -132,7 +132,8 @@ def flipped_round(threes):
     found = [tuple(three) for three in threes]
     places = {}
     for place, three in enumerate(found):
-        places.update({step: place for step in steps_of(three)})
+        for step in steps_of(three):
+            places[step] = place
     flipped = True
     while flipped:
         flipped = False
