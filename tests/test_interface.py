@@ -171,6 +171,79 @@ FUNCTIONS = {
         two_nearest(spots)
         furthest(spots)
     """,
+    "districts": """
+        check_weights(names, links, weights)
+        hangs(links, lot)
+        all_cuts(names, links, many)
+        uneven(weights, cut)
+        evenest(names, links, weights, many)
+        cut_edges(links, cut)
+        check_cut(names, links, weights, cut, much)
+        swapped(links, cut, weights)
+        gone_over(cut, name, one, other)
+        seats(votes, many)
+        won(lots, sides)
+    """,
+    "boxes": """
+        doubled(count)
+        is_leaf(tree)
+        code(x, y, depth)
+        uncoded(number, depth)
+        depth_of(tree)
+    """,
+    "shapes": """
+        moved_by(x, y)
+        stretched(by_x, by_y)
+        quarter_turned(many)
+        three_to_three(one, other)
+        flat_change(three)
+        turned_alike(one, other)
+    """,
+    "roads": """
+        net_of(pieces)
+        fars(net, start)
+        way(net, start, end)
+        way_length(net, row)
+        check_way(net, row, table)
+        all_joined(net)
+        by_length(net, pieces)
+        is_shorter(net, one, other)
+        root(lots, one)
+        whole_length(net, pieces)
+    """,
+    "heights": """
+        check_heights(rows)
+        squares_beside(rows, x, y)
+        flows(rows)
+        basins(rows)
+        filled(rows)
+        stands(rows)
+        lakes(rows)
+        drained(rows)
+        moved_earth(rows, level)
+        even_level(rows)
+        crossings(rows, level)
+        height_at(rows, x, y, right, up)
+        highest(rows)
+    """,
+    "tracks": """
+        check_track(row)
+        on_step(start, end, spot)
+        nearest_on(row, spot)
+        whole_way(row)
+        at_length(row, far)
+        length_at(row, spot)
+        fewer(row, most)
+        far_from(start, end, spot)
+        evenly(row, many)
+    """,
+    "desks": """
+        number(word)
+        letter(word)
+        figure_of(text)
+        lines_of(text)
+        done_again(text)
+    """,
 }
 
 METHODS = {
@@ -203,6 +276,35 @@ METHODS = {
         ring(self)
         meets(self, other)
         shown(self)
+    """,
+    ("boxes", "Fours"): """
+        __init__(self, depth, most)
+        put(self, name, x, y)
+        take(self, name)
+        tree(self)
+        cut(self, names, x, y, size)
+        within(self, low_x, low_y, high_x, high_y)
+        found(self, tree, x, y, size, box)
+        nearest(self, x, y)
+    """,
+    ("shapes", "Change"): """
+        __init__(self, parts)
+        of(self, spot)
+        by(self)
+        behind(self, first)
+        back(self)
+        of_ring(self, ring)
+        of_map(self, made)
+        shown(self)
+    """,
+    ("desks", "Desk"): """
+        __init__(self)
+        say(self, line)
+        do(self, line)
+        here(self)
+        paint(self, x, y, sign, words)
+        let(self, rows, words)
+        answer(self, words)
     """,
 }
 
