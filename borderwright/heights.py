@@ -59,20 +59,25 @@ def basins(rows):
 def filled(rows):
     """Return the least heights, none lower than it was, from which water gets out over the edge; BadSize."""
     old = check_heights(rows)
-    wide, high = len(old[0]), len(old)
+    levels = levels_in(old)
+    return tuple([tuple([levels[(x, y)] for x in range(len(row))]) for y, row in enumerate(old)])
+
+
+def levels_in(rows):
+    """Return a table of squares to the least heights from which water gets out over the outer ones."""
     waiting = []
-    for x, y in squares_in(old):
-        if x in (0, wide - 1) or y in (0, high - 1):
-            heappush(waiting, (old[y][x], x, y))
-    levels = {(x, y): level for level, x, y in waiting}
+    for x, y in squares_in(rows):
+        if x in (0, len(rows[0]) - 1) or y in (0, len(rows) - 1):
+            heappush(waiting, (rows[y][x], x, y))
+    found = {(x, y): level for level, x, y in waiting}
     while waiting != []:
         # The lowest one is as low as it can be: all other ways to it go by higher ones.
         level, x, y = heappop(waiting)
-        for aside, up in squares_beside(old, x, y):
-            if (aside, up) not in levels:
-                levels[(aside, up)] = max(level, old[up][aside])
-                heappush(waiting, (levels[(aside, up)], aside, up))
-    return tuple([tuple([levels[(x, y)] for x in range(wide)]) for y in range(high)])
+        for aside, up in squares_beside(rows, x, y):
+            if (aside, up) not in found:
+                found[(aside, up)] = max(level, rows[up][aside])
+                heappush(waiting, (found[(aside, up)], aside, up))
+    return found
 
 
 def stands(rows):

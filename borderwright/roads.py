@@ -12,9 +12,9 @@ def net_of(pieces):
     for start, end in pieces:
         if start == end:
             raise BadPoint("a piece goes nowhere")
-        far = stride(start, end)
-        found.setdefault(start, {})[end] = far
-        found.setdefault(end, {})[start] = far
+        for one, other in ((start, end), (end, start)):
+            beside = found.setdefault(one, {})
+            beside[other] = stride(one, other)
     return found
 
 

@@ -442,8 +442,8 @@ class Stored(unittest.TestCase):
         self.assertEqual(done_again(desk.text).say("size z"), "2")
 
     def test_lines_that_can_not_be_are_refused(self):
-        for lines in (("dance",), ("paint 0 0 a",), ("open 9 9",), ("open 1 1", "paint 1 1 a"), ("open 1 1", "merge a b c"),
-                      ("open x 1",), ("open 1 1", "paint 0 0 A"), ("rows",), ("",), ("open 1 1", "")):
+        for lines in (("dance",), ("paint 0 0 a",), ("open 9 9",), ("open 1 1", "paint 1 1 a"), ("open x 1",),
+                      ("open 1 1", "merge a b c"), ("open 1 1", "paint 0 0 A"), ("rows",), ("",), ("open 1 1", "")):
             refused_unchanged(self, BadStore, done_again, written(*lines))
 
     def test_lines_that_are_no_deeds_are_refused(self):

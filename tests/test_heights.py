@@ -112,7 +112,8 @@ class Flows(unittest.TestCase):
         for rows in some_rows():
             wanted = {}
             for x, y in squares_of(rows):
-                lower = [(rows[up][aside], aside, up) for aside, up in beside(rows, x, y) if rows[up][aside] < rows[y][x]]
+                about = [(rows[up][aside], aside, up) for aside, up in beside(rows, x, y)]
+                lower = [row for row in about if row[0] < rows[y][x]]
                 wanted[(x, y)] = min(lower)[1:] if lower else None
             self.assertEqual(unchanged(self, flows, rows), wanted)
 
@@ -167,8 +168,8 @@ class Filled(unittest.TestCase):
         self.assertEqual(unchanged(self, stands, POND), 4 + 3 + 1)
         self.assertEqual(stands([[1, 0], [0, 1]]), 0)
         for rows in some_rows():
-            self.assertEqual(stands(rows), sum(
-                level - height for one, other in zip(filled_by_trying(rows), rows) for level, height in zip(one, other)))
+            levels = filled_by_trying(rows)
+            self.assertEqual(stands(rows), sum(levels[y][x] - rows[y][x] for x, y in squares_of(rows)))
 
     def test_lakes(self):
         found = unchanged(self, lakes, POND)

@@ -101,7 +101,8 @@ class Points(unittest.TestCase):
         self.assertEqual((told(one), told(other)), ((0, -1, 0, 1, 0, 0), (1, 0, 5, 0, 1, 0)))
 
     def test_back(self):
-        self.assertEqual(told(change(2, 0, 3, 0, 4, 5).back()), (HALF, 0, -3 * HALF, 0, Fraction(1, 4), -Fraction(5, 4)))
+        self.assertEqual(told(change(2, 0, 3, 0, 4, 5).back()), (
+            HALF, 0, -3 * HALF, 0, Fraction(1, 4), -Fraction(5, 4)))
         self.assertEqual(told(change(1, 2, 0, 0, 1, 0).back()), (1, -2, 0, 0, 1, 0))
 
     def test_back_of_what_goes_flat_is_refused(self):

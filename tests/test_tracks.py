@@ -81,7 +81,8 @@ class Nearest(unittest.TestCase):
         start, end = spot(1, 1), spot(5, 3)
         for one, found in (((3, 2), (3, 2)), ((2, 4), (3, 2)), ((0, 0), (1, 1)), ((1, 0), (1, 1)), ((9, 9), (5, 3)),
                            ((5, 3), (5, 3)), ((1, 1), (1, 1)), ((2, 1), (Fraction(9, 5), Fraction(7, 5))),
-                           ((0, 3), (1, 1)), ((4, 5), (5, 3)), ((0, Fraction(7, 2)), (Fraction(6, 5), Fraction(11, 10)))):
+                           ((0, 3), (1, 1)), ((4, 5), (5, 3)),
+                           ((0, Fraction(7, 2)), (Fraction(6, 5), Fraction(11, 10)))):
             self.assertEqual(unchanged(self, on_step, start, end, spot(*one)), spot(*found))
             self.assertEqual(on_step(end, start, spot(*one)), spot(*found))
         tuples_all_through(self, on_step(start, end, spot(2, 1)))

@@ -5,12 +5,13 @@ import random
 import unittest
 from fractions import Fraction
 
+from borderwright.boxes import Fours
 from borderwright.cells import map_of
 from borderwright.colours import all_neighbours, check_colours, check_least, coloured, fewest, greedy, links_of
-from borderwright.desks import Desk
+from borderwright.desks import Desk, lines_of
 from borderwright.districts import all_cuts, check_cut, evenest, swapped, uneven
 from borderwright.errors import BadMap, BadPaper, BadSize
-from borderwright.faces import face_area
+from borderwright.faces import face_area, inner_point
 from borderwright.labels import Label, bound_of, check_labels, fits, lots_for, most_labels
 from borderwright.maps import Map
 from borderwright.merges import cut, filled_gaps, merged
@@ -20,7 +21,7 @@ from borderwright.roads import check_way, fars, net_of, way
 from borderwright.shapes import Change, moved_by, quarter_turned
 from borderwright.simples import simpler
 from borderwright.triangles import check_threes, ears
-from helper import keeps_map, map_state, number, pair, part_of, ring, spot
+from helper import keeps_map, map_state, number, pair, part_of, ring, spot, tuples_all_through
 
 
 def some_maps(seed, many, wide=4, high=4, letters="abc."):
@@ -302,6 +303,79 @@ class Papers(unittest.TestCase):
         """Tell whether three corners' inside lies in a ring: what both have is as great as the three."""
         one, other = Map({"a": [row]}), Map({"a": [three]})
         return Overlay(one, other).both("a", "a") == area(three)
+
+
+class Fields(unittest.TestCase):
+    def see_map(self, made):
+        self.assertEqual([one.__class__ for one in (made.regions, made.faces, made.owners, made.sides)],
+                         [dict, tuple, list, dict])
+        self.assertEqual(len(made.faces), len(made.owners))
+        tuples_all_through(self, made.faces)
+        for name, rings in made.regions.items():
+            tuples_all_through(self, rings)
+            self.assertEqual(rings, made.rings(name))
+        for face, owner in zip(made.faces, made.owners):
+            self.assertEqual(made.owner_of(inner_point(face)), owner)
+            self.assertIn(owner, [None, *made.regions])
+
+    def test_of_maps_when_made_and_after_each_deed(self):
+        for made in some_maps(109, 6):
+            self.see_map(made)
+            before = map_state(made)
+            for work in (made.names, made.whole, made.gaps, made.borders, made.neighbours, made.shown):
+                work()
+                self.assertEqual(map_state(made), before)
+            for found in (filled_gaps(made), simpler(made, (1, 2)), quarter_turned(1).of_map(made), Map({})):
+                self.see_map(found)
+            if made.names() != ():
+                self.see_map(merged(made, made.names(), "z"))
+            self.assertEqual(map_state(made), before)
+
+    def test_of_overlays(self):
+        for one, other in itertools.combinations(some_maps(110, 3), 2):
+            found = Overlay(one, other)
+            self.assertEqual((found.faces.__class__, found.owners.__class__), (tuple, list))
+            tuples_all_through(self, found.faces)
+            before = (found.faces, list(found.owners))
+            for work in (found.areas, found.unlike, lambda: alike(found)):
+                work()
+            self.assertEqual((found.faces, found.owners), before)
+            self.assertEqual([(one.owner_of(here), other.owner_of(here)) for here in map(inner_point, found.faces)],
+                             found.owners)
+
+    def test_of_labels(self):
+        one = Label("a", spot(0, 0), (1, 1), (1, 1))
+        self.assertEqual(one.name, "a")
+        one.meets(Label("b", spot(0, 0), (1, 1), (1, 1)))
+        one.ring()
+        self.assertEqual(one.name, "a")
+
+    def test_of_fours(self):
+        made = Fours(2, 1)
+        self.assertEqual((made.points, made.size, made.looked), ({}, 4, 0))
+        made.put("a", 1, 1)
+        made.put("b", 3, 3)
+        self.assertEqual((made.points, made.size, made.looked), ({"a": (1, 1), "b": (3, 3)}, 4, 0))
+        made.within(0, 0, 2, 2)
+        self.assertEqual((made.points, made.size, made.looked), ({"a": (1, 1), "b": (3, 3)}, 4, 2))
+        made.take("a")
+        self.assertEqual((made.points, made.size, made.looked), ({"b": (3, 3)}, 4, 2))
+        made.within(0, 0, 2, 2)
+        self.assertEqual((made.points, made.size, made.looked), ({"b": (3, 3)}, 4, 1))
+
+    def test_of_desks(self):
+        desk = Desk()
+        self.assertEqual((desk.rows, desk.text, desk.many), (None, "", 0))
+        lines = []
+        for line, rows in (("open 2 2", ("..", "..")), ("paint 1 0 b", (".b", "..")), ("paint 0 1 a", (".b", "a.")),
+                           ("merge a b c", (".c", "c.")), ("open 1 1", (".",))):
+            for other in ("rows", "gaps", "paint 9 9 a", "merge x y z", "open 0 0", ""):
+                desk.say(other)
+            desk.say(line)
+            lines.append(line)
+            self.assertEqual((desk.rows, desk.many), (rows, len(lines)))
+            self.assertEqual(lines_of(desk.text), tuple(lines))
+            self.see_map(desk.map)
 
 
 class Kinds(unittest.TestCase):
