@@ -63,13 +63,13 @@ def beside(x, y, wide, high):
 
 
 def lots_of(rows):
-    """Return (letter, squares) of all lots of like squares that hang together by sides, in order; BadText."""
+    """Return (letter, squares) of all lots of like letters that hang together by sides, in order; BadText."""
     old = check_rows(rows)
     gone = {}
     found = []
     for y, row in enumerate(old):
         for x, letter in enumerate(row):
-            if (x, y) not in gone:
+            if letter != BARE and (x, y) not in gone:
                 lot = lot_at(old, x, y)
                 found.append((letter, lot))
                 for square in lot:

@@ -151,10 +151,16 @@ class Squares(unittest.TestCase):
                                  ("b", ((0, 1), (0, 2), (1, 2))), ("a", ((2, 2),))))
         tuples_all_through(self, found)
 
-    def test_lots_of_dots(self):
-        self.assertEqual(lots_of(["a..", ".a."]), (
-            ("a", ((0, 0),)), (".", ((1, 0), (2, 0), (2, 1))), (".", ((0, 1),)), ("a", ((1, 1),))))
-        self.assertEqual(lots_of(["."]), ((".", ((0, 0),)),))
+    def test_dots_are_no_lot(self):
+        found = unchanged(self, lots_of, ["a..", ".a."])
+        self.assertEqual(found, (("a", ((0, 0),)), ("a", ((1, 1),))))
+        for rows in (["."], ["...", "..."], (".", ".")):
+            self.assertEqual(lots_of(rows), ())
+
+    def test_dots_part_lots_and_lots_go_round_dots(self):
+        self.assertEqual(lots_of(["a.a", "a.a"]), (("a", ((0, 0), (0, 1))), ("a", ((2, 0), (2, 1)))))
+        about = ((0, 0), (0, 1), (0, 2), (1, 0), (1, 2), (2, 0), (2, 1), (2, 2))
+        self.assertEqual(lots_of(["aaa", "a.a", "aaa"]), (("a", about),))
 
     def test_lots_hang_together_by_sides_alone(self):
         self.assertEqual(lots_of(["ab", "ba"]), (
@@ -162,14 +168,14 @@ class Squares(unittest.TestCase):
 
     def test_lots_stand_in_order_of_first_squares_row_by_row(self):
         # The lot of b has (0, 1), which is ahead of (1, 0) by x and y, yet comes behind it row by row.
-        self.assertEqual(lots_of([".a", "bb"])[1:], (("a", ((1, 0),)), ("b", ((0, 1), (1, 1)))))
+        self.assertEqual(lots_of([".a", "bb"]), (("a", ((1, 0),)), ("b", ((0, 1), (1, 1)))))
 
-    def test_lots_have_all_squares_once(self):
+    def test_lots_have_all_squares_of_letters_once(self):
         rand = random.Random(8)
         for _ in range(30):
             rows = ["".join(rand.choice("ab.") for _ in range(5)) for _ in range(4)]
             found = lots_of(rows)
-            squares = [(x, y) for x in range(5) for y in range(4)]
+            squares = [(x, y) for x in range(5) for y in range(4) if rows[y][x] != BARE]
             self.assertEqual(sorted(one for _, lot in found for one in lot), squares)
             firsts = [min((y, x) for x, y in lot) for _, lot in found]
             self.assertEqual(firsts, sorted(firsts))

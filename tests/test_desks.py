@@ -261,8 +261,10 @@ class Questions(unittest.TestCase):
 
     def test_lots(self):
         self.assertEqual(self.asked(painted("aab", "abb", "cca"), "lots"), "a3 b3 c2 a1")
-        self.assertEqual(self.asked(painted("a.", ".."), "lots"), "a1 .3")
-        self.assertEqual(self.asked(desk_of("open 4 3"), "lots"), ".12")
+        self.assertEqual(self.asked(painted("a.", ".."), "lots"), "a1")
+        self.assertEqual(self.asked(painted(".a.a", "bb.a"), "lots"), "a1 a2 b2")
+        self.assertEqual(self.asked(desk_of("open 4 3"), "lots"), "")
+        self.assertEqual(self.asked(desk_of("open 1 1", "paint 0 0 a", "paint 0 0 ."), "lots"), "")
 
     def test_colours(self):
         self.assertEqual(self.asked(desk_of("open 2 2"), "colours"), "0")
